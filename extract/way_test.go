@@ -367,3 +367,21 @@ func TestAllOfALongProof(t *testing.T) {
 	twin := another(bits, hashOf(bits, l[last]), asLeaf(""), l[last])
 	r.finds("18.2: the last string of a long proof", mine, m.root, overAll(), l[last], twin, instead(l, last, twin)...)
 }
+
+// Strings of one hash and of one length, which differ in few bytes, in either order.
+func TestStringsOfOneLength(t *testing.T) {
+	for _, bits := range twinBits {
+		r := newRig(t, bits)
+		a := asLeaf("6b")(0)
+		b := another(bits, hashOf(bits, a), asLeaf("6b"), a)
+		if len(a) != len(b) || a >= b {
+			t.Fatalf("strings of %d and %d bytes", len(a), len(b))
+		}
+		for _, at := range []aim{to("k"), to(""), overAll()} {
+			r.finds("18.1: of one length", []string{a}, hashOf(bits, a), at, a, b, b)
+			r.finds("18.1: of one length", []string{b}, hashOf(bits, b), at, b, a, a)
+			r.finds("18: of one length", []string{a, b}, hashOf(bits, a), at, a, b, a)
+			r.finds("18: of one length", []string{b, a}, hashOf(bits, a), at, b, a, a)
+		}
+	}
+}
